@@ -659,23 +659,30 @@ func checkRead(t *testing.T, text string) {
 	}
 }
 
+// eachByteOff goes through what a text is with one byte another one, one more, or one less, and without its first, or its last bytes.
+func eachByteOff(text string, f func(off string)) {
+	for i := 0; i <= len(text); i++ {
+		for b := 0; b < 256; b++ {
+			put := string([]byte{byte(b)})
+			f(text[:i] + put + text[i:])
+			if i < len(text) {
+				f(text[:i] + put + text[i+1:])
+			}
+		}
+		if i < len(text) {
+			f(text[:i] + text[i+1:])
+		}
+		f(text[:i])
+		f(text[i:])
+	}
+}
+
 // P33: one byte another one, one more, or one less.
 func TestLoopReadOneByteOff(t *testing.T) {
 	for _, k := range knownLoops() {
-		for i := 0; i <= len(k.text); i++ {
-			for b := 0; b < 256; b++ {
-				put := string([]byte{byte(b)})
-				checkRead(t, k.text[:i]+put+k.text[i:])
-				if i < len(k.text) {
-					checkRead(t, k.text[:i]+put+k.text[i+1:])
-				}
-			}
-			if i < len(k.text) {
-				checkRead(t, k.text[:i]+k.text[i+1:])
-			}
-			checkRead(t, k.text[:i])
-			checkRead(t, k.text[i:])
-		}
+		eachByteOff(k.text, func(off string) {
+			checkRead(t, off)
+		})
 	}
 }
 
