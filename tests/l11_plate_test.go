@@ -424,24 +424,25 @@ func aboutHoles(p impl.Plate) [][]impl.Pt {
 	return out
 }
 
-// P36: how many holes there may be.
-func TestPlateOfTooManyHoles(t *testing.T) {
-	outer := plainPts("0,0 9,0 9,9 0,9")
+// nineHoles are nine holes that have room beside each other in all of the grid.
+func nineHoles() [][]impl.Pt {
 	var holes [][]impl.Pt
 	for y := 1; y <= 7; y += 3 {
 		for x := 1; x <= 7; x += 3 {
 			holes = append(holes, ptsOf(x, y, x+1, y, x, y+1))
 		}
 	}
-	for many := 0; many <= len(holes); many++ {
-		p := impl.Plate{Outer: outer, Holes: holes[:many]}
-		if many > impl.HoleMax {
-			checkNoPlate(t, "too many holes", p)
-		} else if !impl.PlateOk(p) {
+	return holes
+}
+
+// P36: how many holes there may be.
+func TestPlateOfManyHoles(t *testing.T) {
+	outer := plainPts("0,0 9,0 9,9 0,9")
+	for many := 0; many <= impl.HoleMax; many++ {
+		if p := (impl.Plate{Outer: outer, Holes: nineHoles()[:many]}); !impl.PlateOk(p) {
 			t.Errorf("with %d holes PlateOk(%v) = false", many, p)
 		}
 	}
-	checkNoPlate(t, "as many holes as a list may have", impl.Plate{Outer: outer, Holes: make([][]impl.Pt, 1<<16)})
 	if impl.HoleMax != 2 {
 		t.Errorf("HoleMax is %d", impl.HoleMax)
 	}
@@ -599,19 +600,30 @@ func TestPlateFarByFoot(t *testing.T) {
 	for _, k := range knownPlates() {
 		p := plainPlate(k.text)
 		for _, at := range allPts() {
-			least := impl.Frac{N: impl.FracMax, D: 1}
-			for _, l := range loopsOf(p) {
-				for _, e := range plainEdges(l) {
-					if far := farByFoot(e, at); rat(far.N, far.D).Cmp(rat(least.N, least.D)) < 0 {
-						least = far
-					}
-				}
-			}
+			least, _ := nearByFoot(p, at)
 			if far := impl.PlateFar(p, at); far != least {
 				t.Fatalf("%s: PlateFar(%v, %v) = %v, not %v", k.what, p, at, far, least)
 			}
 		}
 	}
+}
+
+// nearByFoot is how far the nearest edge of a plate is from a point, squared, and all edges that are as near, by the nearest points of each.
+func nearByFoot(p impl.Plate, at impl.Pt) (impl.Frac, []impl.Seg) {
+	least := impl.Frac{N: impl.FracMax, D: 1}
+	var near []impl.Seg
+	for _, l := range loopsOf(p) {
+		for _, e := range plainEdges(l) {
+			far := farByFoot(e, at)
+			switch rat(far.N, far.D).Cmp(rat(least.N, least.D)) {
+			case -1:
+				least, near = far, []impl.Seg{e}
+			case 0:
+				near = append(near, e)
+			}
+		}
+	}
+	return least, near
 }
 
 // P39, P41 and P42: how a point may stand.
@@ -922,29 +934,57 @@ func TestPlateOfOneLoop(t *testing.T) {
 	}
 }
 
-// P36 to P49: loops that are none, as the outer loop and as a hole.
-func TestPlateOfWrongLoops(t *testing.T) {
+// P36 to P49.
+func TestWrongPlates(t *testing.T) {
+	eachWrongPlate(func(what string, p impl.Plate) {
+		checkNoPlate(t, what, p)
+	})
+}
+
+// eachWrongPlate goes through plates that are not ok, in each way in which one may not be.
+func eachWrongPlate(f func(what string, p impl.Plate)) {
+	for _, k := range knownBadPlates() {
+		p := plateOf(k.loops...)
+		f(k.what, p)
+		f(k.what, movedPlate(p, otherSide))
+		f(k.what, movedPlate(p, exchanged))
+	}
+	eachPlateOfTooManyHoles(f)
+	eachPlateOfWrongLoops(f)
+	eachPlateOfWrongPoints(f)
+}
+
+func eachPlateOfTooManyHoles(f func(what string, p impl.Plate)) {
+	outer, holes := plainPts("0,0 9,0 9,9 0,9"), nineHoles()
+	for many := impl.HoleMax + 1; many <= len(holes); many++ {
+		f("too many holes", impl.Plate{Outer: outer, Holes: holes[:many]})
+	}
+	f("as many holes as a list may have", impl.Plate{Outer: outer, Holes: make([][]impl.Pt, 1<<16)})
+}
+
+// eachPlateOfWrongLoops takes loops that are none as the outer loop, and as a hole.
+func eachPlateOfWrongLoops(f func(what string, p impl.Plate)) {
 	outer, hole := plainPts("0,0 9,0 9,9 0,9"), plainPts("1,7 2,7 2,8 1,8")
-	checkNoPlate(t, "nothing", impl.Plate{})
-	checkNoPlate(t, "no outer loop", impl.Plate{Holes: [][]impl.Pt{hole}})
+	f("nothing", impl.Plate{})
+	f("no outer loop", impl.Plate{Holes: [][]impl.Pt{hole}})
 	for _, k := range knownBads() {
-		checkNoPlate(t, k.what, impl.Plate{Outer: k.pts})
-		checkNoPlate(t, k.what, impl.Plate{Outer: k.pts, Holes: [][]impl.Pt{{}}})
-		checkNoPlate(t, k.what, impl.Plate{Outer: k.pts, Holes: [][]impl.Pt{hole}})
-		checkNoPlate(t, k.what, impl.Plate{Outer: k.pts, Holes: [][]impl.Pt{k.pts, hole}})
+		f(k.what, impl.Plate{Outer: k.pts})
+		f(k.what, impl.Plate{Outer: k.pts, Holes: [][]impl.Pt{{}}})
+		f(k.what, impl.Plate{Outer: k.pts, Holes: [][]impl.Pt{hole}})
+		f(k.what, impl.Plate{Outer: k.pts, Holes: [][]impl.Pt{k.pts, hole}})
 		// Moved in where there is room, so that nothing but the hole itself is wrong.
 		within := movedPts(k.pts, func(p impl.Pt) impl.Pt { return impl.Pt{X: p.X + 3, Y: p.Y + 1} })
 		for _, bad := range [][]impl.Pt{k.pts, within} {
-			checkNoPlate(t, k.what, impl.Plate{Outer: outer, Holes: [][]impl.Pt{bad}})
-			checkNoPlate(t, k.what, impl.Plate{Outer: outer, Holes: [][]impl.Pt{bad, hole}})
-			checkNoPlate(t, k.what, impl.Plate{Outer: outer, Holes: [][]impl.Pt{hole, bad}})
-			checkNoPlate(t, k.what, impl.Plate{Outer: outer, Holes: [][]impl.Pt{bad, bad}})
+			f(k.what, impl.Plate{Outer: outer, Holes: [][]impl.Pt{bad}})
+			f(k.what, impl.Plate{Outer: outer, Holes: [][]impl.Pt{bad, hole}})
+			f(k.what, impl.Plate{Outer: outer, Holes: [][]impl.Pt{hole, bad}})
+			f(k.what, impl.Plate{Outer: outer, Holes: [][]impl.Pt{bad, bad}})
 		}
 	}
 }
 
-// P36 to P49: a point that is not of the grid, in any place of any loop.
-func TestPlateOfWrongPoints(t *testing.T) {
+// eachPlateOfWrongPoints takes a point that is not of the grid, in any place of any loop.
+func eachPlateOfWrongPoints(f func(what string, p impl.Plate)) {
 	for _, text := range []string{"0,0 8,0 8,8 0,8\n", "0,0 8,0 8,8 0,8\n3,3 5,3 5,5 3,5\n", "0,0 9,0 0,9\n1,1 3,1 1,3\n5,1 6,1 5,2\n"} {
 		p := plainPlate(text)
 		for _, bad := range badPts() {
@@ -952,7 +992,7 @@ func TestPlateOfWrongPoints(t *testing.T) {
 				for j := range l {
 					loops := loopsOf(p)
 					loops[i] = insteadAt(l, j, bad)
-					checkNoPlate(t, "a point that is not of the grid", impl.Plate{Outer: loops[0], Holes: loops[1:]})
+					f("a point that is not of the grid", impl.Plate{Outer: loops[0], Holes: loops[1:]})
 				}
 			}
 		}
@@ -961,9 +1001,9 @@ func TestPlateOfWrongPoints(t *testing.T) {
 	beyond := ptsOf(-1, -1, 10, -1, 10, 10, -1, 10)
 	hole := plainPts("3,3 5,3 5,5 3,5")
 	for _, outer := range [][]impl.Pt{far, beyond} {
-		checkNoPlate(t, "around the grid", impl.Plate{Outer: outer})
-		checkNoPlate(t, "around the grid, with a hole", impl.Plate{Outer: outer, Holes: [][]impl.Pt{hole}})
-		checkNoPlate(t, "around the grid, and it as a hole", impl.Plate{Outer: outer, Holes: [][]impl.Pt{outer, hole}})
+		f("around the grid", impl.Plate{Outer: outer})
+		f("around the grid, with a hole", impl.Plate{Outer: outer, Holes: [][]impl.Pt{hole}})
+		f("around the grid, and it as a hole", impl.Plate{Outer: outer, Holes: [][]impl.Pt{outer, hole}})
 	}
 }
 
