@@ -466,6 +466,12 @@ func TestMiddleLeavesNothingRunning(t *testing.T) {
 	for _, p := range someMiddlePlates() {
 		askMiddle(p)
 	}
+	checkNoMoreRun(t, before)
+}
+
+// checkNoMoreRun asks whether there are more goroutines than before.
+func checkNoMoreRun(t *testing.T, before int) {
+	t.Helper()
 	// One that has told that it is done may need a moment to end.
 	for range 1000 {
 		if runtime.NumGoroutine() <= before {
