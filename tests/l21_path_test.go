@@ -1171,33 +1171,35 @@ func TestPathsLeaveArgumentsAlone(t *testing.T) {
 	}
 }
 
+// checkNewPts asks twice, and writes over the one answer, spare room included: the other one, and what was given, must stay.
+func checkNewPts(t *testing.T, what string, given []impl.Pt, ask func() []impl.Pt) {
+	t.Helper()
+	was := slices.Clone(given)
+	first, second := ask(), ask()
+	want := slices.Clone(second)
+	clear(first[:cap(first)])
+	if !slices.Equal(second, want) || !slices.Equal(ask(), want) || !slices.Equal(given, was) {
+		t.Fatalf("%s: answers share memory with each other, or with an argument", what)
+	}
+}
+
 // P71, P74, P75 and P80: each answer is new memory, spare room included.
 func TestPathAnswersAreNew(t *testing.T) {
-	check := func(what string, given []impl.Pt, ask func() []impl.Pt) {
-		t.Helper()
-		was := slices.Clone(given)
-		first, second := ask(), ask()
-		want := slices.Clone(second)
-		clear(first[:cap(first)])
-		if !slices.Equal(second, want) || !slices.Equal(ask(), want) || !slices.Equal(given, was) {
-			t.Fatalf("%s: answers share memory with each other, or with an argument", what)
-		}
-	}
 	for _, k := range knownWays() {
 		p, way := plainPlate(k.text), plainPts(k.way)
-		check(k.what, p.Outer, func() []impl.Pt {
+		checkNewPts(t, k.what, p.Outer, func() []impl.Pt {
 			way, _ := impl.PathWay(p, k.r, plainPts(k.from)[0], plainPts(k.to)[0])
 			return way
 		})
-		check(k.what, way, func() []impl.Pt { return impl.PathCut(k.r, way) })
-		check(k.what, way, func() []impl.Pt { return impl.PathLeft(p, way) })
+		checkNewPts(t, k.what, way, func() []impl.Pt { return impl.PathCut(k.r, way) })
+		checkNewPts(t, k.what, way, func() []impl.Pt { return impl.PathLeft(p, way) })
 		if !samePlate(p, plainPlate(k.text)) {
 			t.Fatalf("%s: answers share memory with the plate", k.what)
 		}
 	}
 	for _, k := range knownAlls() {
 		p := plainPlate(k.text)
-		check(k.what, p.Outer, func() []impl.Pt { return impl.PathAll(p, k.r, plainPts(k.from)[0]) })
+		checkNewPts(t, k.what, p.Outer, func() []impl.Pt { return impl.PathAll(p, k.r, plainPts(k.from)[0]) })
 		if !samePlate(p, plainPlate(k.text)) {
 			t.Fatalf("%s: answers share memory with the plate", k.what)
 		}
