@@ -799,18 +799,24 @@ func TestCodesWhileOthersAsk(t *testing.T) {
 			impl.CodeRead(text + "G")
 			return text + textBytes(read) + textBytes(stay)
 		}
-		want := ask()
-		told := make([]string, 8)
-		var all sync.WaitGroup
-		for j := range told {
-			all.Go(func() { told[j] = ask() })
-		}
-		all.Wait()
-		for _, text := range told {
-			if text != want {
-				t.Fatalf("of %v while others ask %q, alone %q", path, text, want)
-			}
-		}
+		checkWhileOthersAsk(t, textBytes(path), ask)
 	}
 	checkNoMoreRun(t, before)
+}
+
+// checkWhileOthersAsk asks alone, and then often at one time: the same must be told.
+func checkWhileOthersAsk(t *testing.T, what string, ask func() string) {
+	t.Helper()
+	want := ask()
+	told := make([]string, 12)
+	var all sync.WaitGroup
+	for i := range told {
+		all.Go(func() { told[i] = ask() })
+	}
+	all.Wait()
+	for _, text := range told {
+		if text != want {
+			t.Fatalf("%s: while others ask %q, alone %q", what, text, want)
+		}
+	}
 }
